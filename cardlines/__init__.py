@@ -1,0 +1,1 @@
+"""Cardlines: cards of a strip led to lines of a pattern in few bytes."""

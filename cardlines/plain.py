@@ -1,0 +1,19 @@
+"""What many files need to know of numbers: their bounds, and how they are written in plain figures."""
+
+LAST_LINE = 10 ** 6
+LAST_COLUMN = 10 ** 4
+# No number of a text is above 10 ** 6, and Python itself refuses to read very long ones.
+LONGEST_NUMBER = 7
+
+
+def is_number(thing, low, high):
+    """Whether a thing is a number from low to high; True and False are none."""
+    return isinstance(thing, int) and not isinstance(thing, bool) and low <= thing <= high
+
+
+def number_in(text):
+    """The number that a text tells in plain figures, no nought ahead; None of any other text."""
+    if not text.isascii() or not text.isdigit() or len(text) > LONGEST_NUMBER:
+        return None
+    number = int(text)
+    return number if str(number) == text else None
