@@ -1,0 +1,139 @@
+"""What point [2] says of all things that are handed in and told, and the names of the interface."""
+
+import copy
+import inspect
+import unittest
+
+from cardlines import entries, figures, leading, places, placetext, runs
+from cardlines.places import Place
+from tests.things import forms
+
+STRIP = [Place(3), Place(3), Place(), Place(3, begin=4, end=9), Place(3, 5, begin=4, end=9)]
+ROW = [("next", 2), ("none", 1), ("part", 1, 0, 4, 5), ("copy", 3, 2, 1), ("same", 1)]
+NAMED = inspect.Parameter.KEYWORD_ONLY
+PLAIN = inspect.Parameter.POSITIONAL_OR_KEYWORD
+
+ASKS = (
+    (runs.runs_of, {"places": STRIP}),
+    (runs.places_of, {"runs": [(2, Place(3)), (1, Place())]}),
+    (runs.run_at, {"places": STRIP, "card": 1}),
+    (runs.strip_text, {"places": STRIP}),
+    (runs.strip_in, {"text": "2*3 - 3.4-9"}),
+    (runs.strip_in, {"text": ""}),
+    (runs.cards_of, {"places": STRIP, "line": 3}),
+    (runs.lines_of, {"places": STRIP}),
+    (figures.number_bytes, {"number": 4097}),
+    (figures.number_bytes, {"number": 0}),
+    (figures.signed_bytes, {"number": -4097}),
+    (figures.number_at, {"codes": [255, 65, 64, 1, 0], "at": 1}),
+    (figures.signed_at, {"codes": [255, 65, 64, 1, 0], "at": 1}),
+    (entries.is_entry, {"thing": ["none", 1]}),
+    (entries.is_entry, {"thing": ("none", [1, [2]])}),
+    (entries.entry_bytes, {"entry": ("line", 1, 77)}),
+    (entries.entry_at, {"codes": [192, 0, 4, 5, 9], "at": 0}),
+    (leading.led, {"entries": ROW, "line": 5}),
+    (leading.led, {"entries": [], "line": 5}),
+    (leading.line_behind, {"entries": ROW, "line": 5}),
+    (placetext.place_in, {"text": "3.4-9"}),
+)
+
+SIGNATURES = (
+    (Place, (("line", PLAIN, None), ("last", PLAIN, None), ("begin", NAMED, None), ("end", NAMED, None))),
+    (Place.has, (("self",), ("line",))), (Place.moved, (("self",), ("by",))),
+    (placetext.place_in, (("text",),)),
+    (runs.runs_of, (("places",),)), (runs.places_of, (("runs",),)), (runs.run_at, (("places",), ("card",))),
+    (runs.strip_text, (("places",),)), (runs.strip_in, (("text",),)),
+    (runs.cards_of, (("places",), ("line",))), (runs.lines_of, (("places",),)),
+    (figures.number_bytes, (("number",),)), (figures.signed_bytes, (("number",),)),
+    (figures.number_at, (("codes",), ("at",))), (figures.signed_at, (("codes",), ("at",))),
+    (entries.is_entry, (("thing",),)), (entries.entry_bytes, (("entry",),)), (entries.entry_at, (("codes",), ("at",))),
+    (leading.led, (("entries",), ("line", NAMED, 0))), (leading.line_behind, (("entries",), ("line", NAMED, 0))),
+)
+
+
+def lists_in(thing):
+    """All lists of a thing, itself too, as objects."""
+    found = [thing] if isinstance(thing, list) else []
+    if isinstance(thing, (list, tuple)):
+        for part in thing:
+            found += lists_in(part)
+    return found
+
+
+def by_place(ask, named):
+    """What is told where all that may be handed in by place is."""
+    kinds = inspect.signature(ask).parameters
+    given = [named[name] for name in named if kinds[name].kind == PLAIN]
+    rest = {name: named[name] for name in named if kinds[name].kind == NAMED}
+    return ask(*given, **rest)
+
+
+class Manners(unittest.TestCase):
+    def test_by_place_and_by_name(self):
+        for ask, named in ASKS:
+            with self.subTest(ask.__name__):
+                self.assertEqual(by_place(ask, named), ask(**named))
+                backwards = {name: named[name] for name in reversed(list(named))}
+                self.assertEqual(ask(**backwards), ask(**named))
+
+    def test_what_is_handed_in_stays(self):
+        for ask, named in ASKS:
+            with self.subTest(ask.__name__):
+                ahead = copy.deepcopy(named)
+                ask(**named)
+                self.assertEqual(named, ahead)
+                self.assertEqual(repr(named), repr(ahead))
+
+    def test_what_is_told_is_the_askers_own(self):
+        for ask, named in ASKS:
+            with self.subTest(ask.__name__):
+                first = ask(**named)
+                wanted = copy.deepcopy(first)
+                second = ask(**named)
+                seen = lists_in(first) + lists_in(second) + [part for thing in named.values() for part in lists_in(thing)]
+                self.assertEqual(len({id(part) for part in seen}), len(seen))
+                for part in lists_in(first):
+                    part.append("bent")
+                    part.reverse()
+                self.assertEqual(second, wanted)
+                self.assertEqual(ask(**named), wanted)
+
+    def test_lists_and_tuples_are_the_same(self):
+        for ask, named in ASKS:
+            if ask == entries.is_entry:
+                continue
+            with self.subTest(ask.__name__):
+                tuples = {name: tuple(thing) if isinstance(thing, list) else thing for name, thing in named.items()}
+                self.assertEqual(ask(**tuples), ask(**named))
+
+    def test_what_was_told_may_be_handed_in_again(self):
+        told = leading.led([("next", 16)] * 60)
+        self.assertEqual(len(told), 960)
+        self.assertEqual(runs.places_of(runs.runs_of(told)), told)
+        self.assertEqual(runs.lines_of(told), list(range(1, 61)))
+        self.assertEqual(runs.cards_of(told, 60), [(944, 959)])
+        self.assertEqual(runs.run_at(told, 959), (944, 959, Place(60)))
+        self.assertEqual(len(runs.strip_text(told).split(" ")), 60)
+
+    def test_places_stay_as_they_are(self):
+        strip = forms()[:160]
+        ahead = [str(place) for place in strip]
+        runs.runs_of(strip), runs.strip_text(strip), runs.lines_of(strip), runs.cards_of(strip, 3), runs.run_at(strip, 0)
+        self.assertEqual([str(place) for place in strip], ahead)
+
+
+class Interface(unittest.TestCase):
+    def test_names_of_arguments(self):
+        for ask, wanted in SIGNATURES:
+            with self.subTest(ask.__name__):
+                told = inspect.signature(ask).parameters.values()
+                wanted = [row if len(row) == 3 else (row[0], PLAIN, inspect.Parameter.empty) for row in wanted]
+                self.assertEqual([(one.name, one.kind, one.default) for one in told], wanted)
+
+    def test_methods_stand_in_the_class_itself(self):
+        for name in ("has", "moved", "__len__", "__eq__", "__str__", "__repr__"):
+            self.assertIn(name, vars(places.Place))
+
+
+if __name__ == "__main__":
+    unittest.main()
