@@ -6,9 +6,14 @@ LAST_COLUMN = 10 ** 4
 LONGEST_NUMBER = 7
 
 
+def is_whole(thing):
+    """Whether a thing is a number; True and False are none."""
+    return isinstance(thing, int) and not isinstance(thing, bool)
+
+
 def is_number(thing, low, high):
-    """Whether a thing is a number from low to high; True and False are none."""
-    return isinstance(thing, int) and not isinstance(thing, bool) and low <= thing <= high
+    """Whether a thing is a number from low to high."""
+    return is_whole(thing) and low <= thing <= high
 
 
 def number_in(text):

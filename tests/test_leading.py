@@ -2,45 +2,16 @@ import random
 import unittest
 
 from cardlines.entries import is_entry
-from cardlines.errors import BadEntry, BadPlace
+from cardlines.errors import BadEntry
 from cardlines.leading import COPIES, HEADS, MOST, led, line_behind
 from cardlines.places import Place
+from tests.document import led_by_the_document
 
 NOWHERE = Place()
 
 
 def lines(*numbers):
     return [Place(number) for number in numbers]
-
-
-def led_by_the_document(entries, line):
-    """Point [8], card by card: the pair (places, line ahead), or the number of the entry that can't stand."""
-    told = []
-    first = None
-    for number, (word, many, *rest) in enumerate(entries):
-        for card in range(many):
-            try:
-                if word == "none":
-                    place = NOWHERE
-                elif word in ("same", "copy"):
-                    back, shift = rest or (1, 0)
-                    if len(told) - card < back:
-                        return number
-                    place = told[len(told) - back].moved(shift)
-                elif card > 0:
-                    place = told[-1]
-                else:
-                    first = line + (rest[0] if rest else 1)
-                    columns = {"next": (), "line": (), "part": rest[1:], "long": rest[2:]}[word]
-                    if word == "part":
-                        columns = (columns[0], sum(columns))
-                    last = first + rest[1] if word == "long" else first
-                    place = Place(first, last, **dict(zip(("begin", "end"), columns)))
-            except BadPlace:
-                return number
-            told.append(place)
-            line = line if place.line is None else place.line
-    return told, line
 
 
 class Names(unittest.TestCase):

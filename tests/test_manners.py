@@ -4,12 +4,13 @@ import copy
 import inspect
 import unittest
 
-from cardlines import entries, figures, leading, places, placetext, runs
+from cardlines import entries, figures, leading, least, leastcheck, places, placetext, runs, tables
 from cardlines.places import Place
 from tests.things import forms
 
 STRIP = [Place(3), Place(3), Place(), Place(3, begin=4, end=9), Place(3, 5, begin=4, end=9)]
 ROW = [("next", 2), ("none", 1), ("part", 1, 0, 4, 5), ("copy", 3, 2, 1), ("same", 1)]
+TABLE = tables.written(STRIP * 5, every=7)
 NAMED = inspect.Parameter.KEYWORD_ONLY
 PLAIN = inspect.Parameter.POSITIONAL_OR_KEYWORD
 
@@ -35,7 +36,24 @@ ASKS = (
     (leading.led, {"entries": [], "line": 5}),
     (leading.line_behind, {"entries": ROW, "line": 5}),
     (placetext.place_in, {"text": "3.4-9"}),
+    (least.least_entries, {"places": STRIP * 3, "line": 2, "make": "copies"}),
+    (least.least_entries, {"places": STRIP * 3, "make": "heads"}),
+    (least.least_entries, {"places": []}),
+    (least.prices, {"places": STRIP * 3, "line": 2, "make": "heads"}),
+    (least.prices, {"places": []}),
+    (leastcheck.shows_least, {"places": STRIP, "entries": least.least_entries(STRIP), "prices": least.prices(STRIP)}),
+    (leastcheck.shows_least, {"places": [], "entries": [], "prices": [0], "line": 3, "make": "heads"}),
+    (leastcheck.shows_least, {"places": STRIP, "entries": [["none", 1], [[2]]], "prices": [[0], [1, [2]]]}),
+    (tables.written, {"places": STRIP * 8, "make": "heads", "every": 7}),
+    (tables.written, {"places": []}),
+    (tables.read, {"codes": TABLE}),
+    (tables.read, {"codes": []}),
+    (tables.tear_of, {"codes": TABLE}),
+    (tables.tear_of, {"codes": TABLE[:-1] + [0]}),
+    (tables.marks_of, {"codes": TABLE}),
 )
+# Of these a list alone is what is asked of, and a tuple is none.
+ASKED_OF = ("thing", "entries", "prices")
 
 SIGNATURES = (
     (Place, (("line", PLAIN, None), ("last", PLAIN, None), ("begin", NAMED, None), ("end", NAMED, None))),
@@ -48,6 +66,12 @@ SIGNATURES = (
     (figures.number_at, (("codes",), ("at",))), (figures.signed_at, (("codes",), ("at",))),
     (entries.is_entry, (("thing",),)), (entries.entry_bytes, (("entry",),)), (entries.entry_at, (("codes",), ("at",))),
     (leading.led, (("entries",), ("line", NAMED, 0))), (leading.line_behind, (("entries",), ("line", NAMED, 0))),
+    (least.least_entries, (("places",), ("line", NAMED, 0), ("make", NAMED, "copies"))),
+    (least.prices, (("places",), ("line", NAMED, 0), ("make", NAMED, "copies"))),
+    (leastcheck.shows_least,
+     (("places",), ("entries",), ("prices",), ("line", NAMED, 0), ("make", NAMED, "copies"))),
+    (tables.written, (("places",), ("make", NAMED, "copies"), ("every", NAMED, 16))),
+    (tables.read, (("codes",),)), (tables.tear_of, (("codes",),)), (tables.marks_of, (("codes",),)),
 )
 
 
@@ -100,10 +124,10 @@ class Manners(unittest.TestCase):
 
     def test_lists_and_tuples_are_the_same(self):
         for ask, named in ASKS:
-            if ask == entries.is_entry:
-                continue
+            asked_of = ASKED_OF if ask in (entries.is_entry, leastcheck.shows_least) else ()
             with self.subTest(ask.__name__):
-                tuples = {name: tuple(thing) if isinstance(thing, list) else thing for name, thing in named.items()}
+                tuples = {name: tuple(thing) if isinstance(thing, list) and name not in asked_of else thing
+                          for name, thing in named.items()}
                 self.assertEqual(ask(**tuples), ask(**named))
 
     def test_what_was_told_may_be_handed_in_again(self):
@@ -114,6 +138,14 @@ class Manners(unittest.TestCase):
         self.assertEqual(runs.cards_of(told, 60), [(944, 959)])
         self.assertEqual(runs.run_at(told, 959), (944, 959, Place(60)))
         self.assertEqual(len(runs.strip_text(told).split(" ")), 60)
+
+    def test_tables_that_were_told_may_be_handed_in_again(self):
+        told = leading.led([("next", 16)] * 60)
+        codes = tables.written(told, every=1)
+        self.assertGreater(len(codes), 2000)
+        self.assertEqual(tables.read(codes), told)
+        self.assertIsNone(tables.tear_of(codes))
+        self.assertEqual(len(tables.marks_of(codes)), 960)
 
     def test_places_stay_as_they_are(self):
         strip = forms()[:160]
