@@ -194,3 +194,28 @@ def table_by_the_document(codes):
         card += len(told[1])
         at = told[2]
     return segments
+
+
+def saved_by_the_document(codes):
+    """Point [11]: (at, card, places) of each 255 from which on to ahead of the next one there is just a segment."""
+    codes = list(codes)
+    marks = [at for at, code in enumerate(codes) if code == 255]
+    told = []
+    for at, end in zip(marks, marks[1:] + [len(codes)]):
+        segment = segment_by_the_document(codes[at:end], 0)
+        if isinstance(segment, tuple):
+            told.append((at, segment[0], segment[1]))
+    return told
+
+
+def read_from_by_the_document(codes, at, segments):
+    """Point [11], of bytes, a place among them, and what is saved of them."""
+    right = {mark: (card, places) for mark, card, places in segments}
+    card = None
+    row = []
+    for mark in [mark for mark, code in enumerate(codes) if code == 255 and mark >= at]:
+        if mark not in right or right[mark][0] != (right[mark][0] if card is None else card + len(row)):
+            break
+        card = right[mark][0] if card is None else card
+        row += right[mark][1]
+    return card, row

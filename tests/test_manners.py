@@ -4,13 +4,15 @@ import copy
 import inspect
 import unittest
 
-from cardlines import entries, figures, leading, least, leastcheck, places, placetext, runs, tables
+from cardlines import entries, figures, leading, least, leastcheck, pairs, places, placetext, reading, runs, seals, tables
 from cardlines.places import Place
+from cardlines.reader import Reader
 from tests.things import forms
 
 STRIP = [Place(3), Place(3), Place(), Place(3, begin=4, end=9), Place(3, 5, begin=4, end=9)]
 ROW = [("next", 2), ("none", 1), ("part", 1, 0, 4, 5), ("copy", 3, 2, 1), ("same", 1)]
 TABLE = tables.written(STRIP * 5, every=7)
+BARE = [Place(3), Place(3), Place(), Place(900), Place(), Place(3)]
 NAMED = inspect.Parameter.KEYWORD_ONLY
 PLAIN = inspect.Parameter.POSITIONAL_OR_KEYWORD
 
@@ -51,6 +53,26 @@ ASKS = (
     (tables.tear_of, {"codes": TABLE}),
     (tables.tear_of, {"codes": TABLE[:-1] + [0]}),
     (tables.marks_of, {"codes": TABLE}),
+    (reading.saved, {"codes": TABLE}),
+    (reading.saved, {"codes": [7] + TABLE + TABLE}),
+    (reading.saved, {"codes": []}),
+    (reading.place_at, {"codes": TABLE, "card": 9}),
+    (reading.read_from, {"codes": TABLE, "at": 1}),
+    (reading.read_from, {"codes": TABLE, "at": len(TABLE)}),
+    (seals.sealed, {"codes": TABLE * 5}),
+    (seals.sealed, {"codes": []}),
+    (seals.unsealed, {"codes": seals.sealed(TABLE * 5)}),
+    (seals.unsealed, {"codes": []}),
+    (seals.bent_in, {"codes": [1, 0, 1, 0, 2]}),
+    (seals.bent_in, {"codes": []}),
+    (seals.mended, {"codes": [1, 0, 1, 0, 2]}),
+    (seals.mended, {"codes": seals.sealed(TABLE)}),
+    (pairs.pairs_written, {"places": BARE * 3, "line": 900}),
+    (pairs.pairs_written, {"places": []}),
+    (pairs.pairs_read, {"codes": pairs.pairs_written(BARE, line=900), "line": 900}),
+    (pairs.pairs_read, {"codes": []}),
+    (pairs.pairs_back, {"codes": pairs.pairs_written(BARE, line=900), "line": 3}),
+    (pairs.pairs_back, {"codes": [], "line": 3}),
 )
 # Of these a list alone is what is asked of, and a tuple is none.
 ASKED_OF = ("thing", "entries", "prices")
@@ -72,6 +94,15 @@ SIGNATURES = (
      (("places",), ("entries",), ("prices",), ("line", NAMED, 0), ("make", NAMED, "copies"))),
     (tables.written, (("places",), ("make", NAMED, "copies"), ("every", NAMED, 16))),
     (tables.read, (("codes",),)), (tables.tear_of, (("codes",),)), (tables.marks_of, (("codes",),)),
+    (reading.saved, (("codes",),)), (reading.place_at, (("codes",), ("card",))),
+    (reading.read_from, (("codes",), ("at",))),
+    (Reader, (("codes",),)), (Reader.on, (("self",),)), (Reader.here, (("self",),)), (Reader.run, (("self",),)),
+    (Reader.forth, (("self",), ("many", NAMED, 1))), (Reader.back, (("self",), ("many", NAMED, 1))),
+    (Reader.seek, (("self",), ("card",))), (Reader.skip, (("self",), ("back", NAMED, False))),
+    (seals.sealed, (("codes",),)), (seals.unsealed, (("codes",),)), (seals.bent_in, (("codes",),)),
+    (seals.mended, (("codes",),)),
+    (pairs.pairs_written, (("places",), ("line", NAMED, 0))), (pairs.pairs_read, (("codes",), ("line", NAMED, 0))),
+    (pairs.pairs_back, (("codes",), ("line",))),
 )
 
 
@@ -146,6 +177,13 @@ class Manners(unittest.TestCase):
         self.assertEqual(tables.read(codes), told)
         self.assertIsNone(tables.tear_of(codes))
         self.assertEqual(len(tables.marks_of(codes)), 960)
+        self.assertEqual(len(reading.saved(codes)), 960)
+        self.assertEqual(reading.read_from(codes, 0), (0, told))
+        self.assertEqual(reading.place_at(codes, 959), told[959])
+        self.assertEqual(len(Reader(codes)), 960)
+        self.assertEqual(seals.unsealed(seals.sealed(codes)), codes)
+        self.assertEqual(seals.bent_in(seals.sealed(codes)), [])
+        self.assertEqual(pairs.pairs_read(pairs.pairs_written(told)), told)
 
     def test_places_stay_as_they_are(self):
         strip = forms()[:160]
