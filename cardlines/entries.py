@@ -2,7 +2,7 @@
 
 from cardlines.errors import Torn
 from cardlines.figures import FIRST_HEAD, number_at, number_bytes, signed_at, signed_bytes
-from cardlines.plain import LAST_COLUMN, LAST_LINE, is_number
+from cardlines.plain import LAST_COLUMN, LAST_LINE, are_numbers, begins_with_word
 
 LAST_HEAD = 239
 HEADS_OF_A_WORD = 16
@@ -29,14 +29,7 @@ BOUNDS = {
 
 def is_entry(thing):
     """Whether a thing is an entry."""
-    if not isinstance(thing, tuple) or len(thing) == 0:
-        return False
-    if not isinstance(thing[0], str) or thing[0] not in BOUNDS:
-        return False
-    bounds = BOUNDS[thing[0]]
-    if len(thing) != len(bounds) + 1:
-        return False
-    return all([is_number(number, low, high) for number, (low, high) in zip(thing[1:], bounds)])
+    return begins_with_word(thing, WORDS) and are_numbers(thing[1:], BOUNDS[thing[0]])
 
 
 def bounded_bytes(number, low):

@@ -2,12 +2,17 @@
 
 from cardlines.entries import entry_at
 from cardlines.errors import Torn
-from cardlines.figures import number_at
+from cardlines.figures import number_at, number_bytes
 from cardlines.leading import MOST, cards_led, line_after
 from cardlines.plain import LAST_LINE
 
 # It stands nowhere else, as figures and heads are below it.
 SEGMENT = 255
+
+
+def opening_bytes(card, line):
+    """The bytes of a segment ahead of its entries, by its first card and line ahead."""
+    return [SEGMENT] + number_bytes(card) + number_bytes(line)
 
 
 def numbers_at(codes, at, card):

@@ -2,10 +2,9 @@
 
 from cardlines.entries import entry_bytes
 from cardlines.errors import Torn
-from cardlines.figures import number_bytes
 from cardlines.leading import COPIES, MOST
 from cardlines.least import least_entries
-from cardlines.segments import SEGMENT, segment_at
+from cardlines.segments import opening_bytes, segment_at
 
 
 def line_told(places):
@@ -19,7 +18,7 @@ def line_told(places):
 def segment_bytes(card, places, make):
     """The bytes of the segment that leads to these places from this card on."""
     line = line_told(places)
-    codes = [SEGMENT] + number_bytes(card) + number_bytes(line)
+    codes = opening_bytes(card, line)
     for entry in least_entries(places, line=line, make=make):
         codes.extend(entry_bytes(entry))
     return codes

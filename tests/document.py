@@ -219,3 +219,90 @@ def read_from_by_the_document(codes, at, segments):
         card = right[mark][0] if card is None else card
         row += right[mark][1]
     return card, row
+
+
+def lines_by_the_document(place):
+    return set() if place.line is None else set(range(place.line, place.last + 1))
+
+
+def place_by_the_document(place, first, out, many):
+    """Point [14], of the turn lines: the place then, None where it would be moved beyond [3]."""
+    lines = lines_by_the_document(place)
+    if all(line < first for line in lines):
+        return place
+    if all(line > first + out - 1 for line in lines):
+        return place.moved(many - out) if max(lines) + many - out <= 10 ** 6 else None
+    return NOWHERE
+
+
+class Card:
+    """A card that is turned: its place, the first cards from which it comes, the first lines that it keeps."""
+
+    def __init__(self, place, came=(), keeps=()):
+        self.place = place
+        self.came = set(came)
+        self.keeps = set(keeps)
+
+    def again(self):
+        return Card(self.place, self.came, self.keeps)
+
+
+def group_by_the_document(group):
+    """Point [14]: the card that these become."""
+    chosen = ([card for card in group if card.place != NOWHERE] or [Card(NOWHERE)])[0].again()
+    for card in group:
+        chosen.came |= card.came
+    return chosen
+
+
+def step_by_the_document(cards, turn):
+    """Point [14]: does one turn to a list of cards; told is whether it can be."""
+    word, at, *rest = turn
+    if word == "lines":
+        for card in cards:
+            card.place = place_by_the_document(card.place, at, *rest)
+            if card.place is None:
+                return False
+            if card.place == NOWHERE:
+                card.keeps = set()
+        return True
+    if word == "put":
+        if at not in range(len(cards) + 1):
+            return False
+        for place in reversed(rest[0]):
+            cards.insert(at, Card(place))
+        return len(cards) <= 160
+    many, *to = rest
+    if at + many - 1 not in range(len(cards)) or (to and to[0] not in range(len(cards) + 1)):
+        return False
+    group = cards[at:at + many]
+    end = Card(NOWHERE)
+    mark = (cards + [end])[to[0]] if to else None
+    if word == "twice":
+        where = to[0]
+        for card in reversed(group):
+            cards.insert(where, card.again())
+        return len(cards) <= 160
+    if word == "move" and mark in group:
+        return True
+    for card in group:
+        cards.remove(card)
+    if word == "one":
+        cards.insert(at, group_by_the_document(group))
+    if word == "move":
+        cards.append(end)
+        for card in group:
+            cards.insert(cards.index(mark), card)
+        cards.remove(end)
+    return True
+
+
+def turned_by_the_document(places, turns):
+    """Point [14]: (places, origins, lost lines) behind these turns, or the number of the first that can't be."""
+    cards = [Card(place, [number], lines_by_the_document(place)) for number, place in enumerate(places)]
+    for number, turn in enumerate(turns):
+        if not step_by_the_document(cards, turn):
+            return number
+    first = {line for place in places for line in lines_by_the_document(place)}
+    kept = {line for card in cards for line in card.keeps}
+    return [card.place for card in cards], [sorted(card.came) for card in cards], sorted(first - kept)

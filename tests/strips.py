@@ -1,8 +1,8 @@
-"""Strips and tables by chance, with which several tests ask."""
+"""Strips, tables and turns by chance, with which several tests ask."""
 
 from cardlines.figures import number_bytes
 from cardlines.places import Place
-from tests.document import bytes_of, led_by_the_document
+from tests.document import bytes_of, led_by_the_document, turned_by_the_document
 
 NOWHERE = Place()
 PART = Place(2, begin=1, end=3)
@@ -53,3 +53,36 @@ def anothers_table(chance):
         codes += more
         places += cards
     return codes, places
+
+
+def any_turn(chance, many):
+    """A turn of so many cards; of some turns there are no such cards."""
+    at = chance.randrange(many + 1)
+    some = chance.randrange(1, max(2, min(12, many - at + 1)))
+    to = chance.randrange(many + 1)
+    word = chance.choice(("put", "take", "move", "one", "twice", "lines"))
+    if word == "put":
+        return word, at, tuple(strip(chance, chance.randrange(1, 9)))
+    if word == "take":
+        return word, at, some
+    if word == "one":
+        return word, at, max(2, some)
+    if word == "lines":
+        first = chance.choice((1, 2, 3, 4, 5, 400, 700, 999999, 10 ** 6))
+        return word, first, chance.choice((0, 0, 1, 2, 500)), chance.choice((0, 0, 1, 2, 300))
+    if word == "move" and at < to < at + some:
+        to = chance.choice((at, at + some))
+    return word, at, some, to
+
+
+def row_of_turns(chance, places, many):
+    """So many turns that can be done to these places, one behind the other."""
+    turns = []
+    cards = len(places)
+    while len(turns) < many:
+        more = turns + [any_turn(chance, cards)]
+        told = turned_by_the_document(places, more)
+        if not isinstance(told, int):
+            turns = more
+            cards = len(told[0])
+    return turns

@@ -4,7 +4,8 @@ import copy
 import inspect
 import unittest
 
-from cardlines import entries, figures, leading, least, leastcheck, pairs, places, placetext, reading, runs, seals, tables
+from cardlines import entries, figures, joining, leading, least, leastcheck, pairs, places, placetext, reading, remaking
+from cardlines import runs, seals, tables, turns
 from cardlines.places import Place
 from cardlines.reader import Reader
 from tests.things import forms
@@ -13,6 +14,8 @@ STRIP = [Place(3), Place(3), Place(), Place(3, begin=4, end=9), Place(3, 5, begi
 ROW = [("next", 2), ("none", 1), ("part", 1, 0, 4, 5), ("copy", 3, 2, 1), ("same", 1)]
 TABLE = tables.written(STRIP * 5, every=7)
 BARE = [Place(3), Place(3), Place(), Place(900), Place(), Place(3)]
+TURNED = [("put", 1, (Place(7), Place())), ("twice", 0, 3, 2), ("lines", 4, 1, 3), ("one", 0, 2), ("move", 0, 2, 5),
+          ("take", 1, 2)]
 NAMED = inspect.Parameter.KEYWORD_ONLY
 PLAIN = inspect.Parameter.POSITIONAL_OR_KEYWORD
 
@@ -73,6 +76,29 @@ ASKS = (
     (pairs.pairs_read, {"codes": []}),
     (pairs.pairs_back, {"codes": pairs.pairs_written(BARE, line=900), "line": 3}),
     (pairs.pairs_back, {"codes": [], "line": 3}),
+    (remaking.bared, {"places": STRIP}),
+    (remaking.bared, {"places": []}),
+    (remaking.remade, {"codes": TABLE, "make": "copies", "every": 3}),
+    (remaking.remade, {"codes": tables.written(BARE), "make": "pairs"}),
+    (remaking.remade, {"codes": []}),
+    (remaking.alike, {"one": TABLE, "other": tables.written(STRIP), "columns": False}),
+    (remaking.alike, {"one": TABLE, "other": list(TABLE)}),
+    (turns.is_turn, {"thing": ["take", 0, 1]}),
+    (turns.is_turn, {"thing": ("put", 0, [Place(3), [2]])}),
+    (turns.turned, {"places": STRIP, "turns": TURNED}),
+    (turns.turned, {"places": STRIP, "turns": []}),
+    (turns.turned, {"places": [], "turns": []}),
+    (turns.origins, {"many": 5, "turns": TURNED}),
+    (turns.origins, {"many": 5, "turns": []}),
+    (turns.lost, {"places": STRIP, "turns": TURNED}),
+    (turns.lost, {"places": STRIP, "turns": []}),
+    (joining.joined, {"one": TABLE, "other": tables.written(STRIP), "by": -1, "make": "heads", "every": 5}),
+    (joining.joined, {"one": TABLE, "other": []}),
+    (joining.joined, {"one": [], "other": []}),
+    (joining.cut, {"codes": TABLE, "first": 0, "last": 24, "make": "copies", "every": 7}),
+    (joining.cut, {"codes": TABLE, "first": 3, "last": 9}),
+    (joining.table_turned, {"codes": TABLE, "turns": TURNED, "make": "heads", "every": 4}),
+    (joining.table_turned, {"codes": TABLE, "turns": []}),
 )
 # Of these a list alone is what is asked of, and a tuple is none.
 ASKED_OF = ("thing", "entries", "prices")
@@ -103,6 +129,14 @@ SIGNATURES = (
     (seals.mended, (("codes",),)),
     (pairs.pairs_written, (("places",), ("line", NAMED, 0))), (pairs.pairs_read, (("codes",), ("line", NAMED, 0))),
     (pairs.pairs_back, (("codes",), ("line",))),
+    (remaking.bared, (("places",),)), (remaking.remade, (("codes",), ("make", NAMED, "heads"), ("every", NAMED, 16))),
+    (remaking.alike, (("one",), ("other",), ("columns", NAMED, True))),
+    (turns.is_turn, (("thing",),)), (turns.turned, (("places",), ("turns",))), (turns.origins, (("many",), ("turns",))),
+    (turns.lost, (("places",), ("turns",))),
+    (joining.joined,
+     (("one",), ("other",), ("by", NAMED, 0), ("make", NAMED, "copies"), ("every", NAMED, 16))),
+    (joining.cut, (("codes",), ("first",), ("last",), ("make", NAMED, "copies"), ("every", NAMED, 16))),
+    (joining.table_turned, (("codes",), ("turns",), ("make", NAMED, "copies"), ("every", NAMED, 16))),
 )
 
 
@@ -155,7 +189,7 @@ class Manners(unittest.TestCase):
 
     def test_lists_and_tuples_are_the_same(self):
         for ask, named in ASKS:
-            asked_of = ASKED_OF if ask in (entries.is_entry, leastcheck.shows_least) else ()
+            asked_of = ASKED_OF if ask in (entries.is_entry, leastcheck.shows_least, turns.is_turn) else ()
             with self.subTest(ask.__name__):
                 tuples = {name: tuple(thing) if isinstance(thing, list) and name not in asked_of else thing
                           for name, thing in named.items()}
@@ -184,6 +218,12 @@ class Manners(unittest.TestCase):
         self.assertEqual(seals.unsealed(seals.sealed(codes)), codes)
         self.assertEqual(seals.bent_in(seals.sealed(codes)), [])
         self.assertEqual(pairs.pairs_read(pairs.pairs_written(told)), told)
+        self.assertEqual(remaking.remade(codes, make="copies"), tables.written(told))
+        self.assertEqual(remaking.remade(codes, make="pairs"), pairs.pairs_written(told))
+        self.assertIsNone(remaking.alike(codes, tables.written(told)))
+        self.assertEqual(joining.cut(codes, 900, 959), tables.written(told[900:]))
+        self.assertEqual(turns.turned(told, []), told)
+        self.assertEqual(turns.turned(told, [("take", 100, 800)]), told[:100] + told[900:])
 
     def test_places_stay_as_they_are(self):
         strip = forms()[:160]

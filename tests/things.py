@@ -31,3 +31,13 @@ def forms():
 
 def fields(place):
     return (place.line, place.last, place.begin, place.end)
+
+
+def refusal(ask, *given, **named):
+    """The pair of the class and the one field of what an ask is refused with; None where it isn't."""
+    try:
+        ask(*given, **named)
+    except (ValueError, LookupError, OverflowError) as refused:
+        (field, worth), = vars(refused).items()
+        return type(refused).__name__, field, worth
+    return None
