@@ -25,7 +25,7 @@ def are_numbers(things, bounds):
 
 def begins_with_word(thing, words):
     """Whether a thing is a tuple that begins with one of these words."""
-    return isinstance(thing, tuple) and len(thing) > 0 and isinstance(thing[0], str) and thing[0] in words
+    return isinstance(thing, tuple) and len(thing) > 0 and thing[0] in words
 
 
 def number_in(text):

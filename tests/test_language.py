@@ -112,6 +112,29 @@ class Modules(unittest.TestCase):
             names = module_names(tree)
             self.assertEqual(sorted(names), sorted(set(names)), name)
 
+    def test_lists_and_dicts_there_are_only_read(self):
+        for name, tree in TREES.items():
+            shared = [row.targets[0].id for row in tree.body
+                      if isinstance(row, ast.Assign) and isinstance(row.value, (ast.Dict, ast.List))]
+            read = set()
+            for node in ast.walk(tree):
+                if isinstance(node, ast.Subscript) and isinstance(node.ctx, ast.Load):
+                    read.add(id(node.value))
+                elif isinstance(node, ast.Compare):
+                    read.update(id(side) for side in node.comparators)
+                elif isinstance(node, (ast.For, ast.comprehension)):
+                    read.add(id(node.iter))
+                elif isinstance(node, ast.Call) and getattr(node.func, "id", "") in ("len", "list", "dict", "sorted"):
+                    read.update(id(given) for given in node.args)
+            for node in ast.walk(tree):
+                if isinstance(node, ast.Name) and node.id in shared and isinstance(node.ctx, ast.Load):
+                    self.assertIn(id(node), read, f"{name}:{node.lineno}")
+                if isinstance(node, ast.ImportFrom):
+                    for alias in node.names:
+                        own = TREES[node.module.partition(".")[2]].body
+                        self.assertFalse([row for row in own if isinstance(row, ast.Assign) and isinstance(
+                            row.value, (ast.Dict, ast.List)) and row.targets[0].id == alias.name], name)
+
     def test_imports(self):
         above = {name: [] for name in TREES}
         for name, node in nodes(ast.Import, ast.ImportFrom):
@@ -201,10 +224,44 @@ class Code(unittest.TestCase):
             for one in caught:
                 self.assertNotIn(one.id, ("Exception", "TypeError", "BaseException"), f"{name}:{node.lineno}")
 
+    def test_finally(self):
+        simple = (ast.Constant, ast.Name, ast.Attribute, ast.Tuple, ast.List, ast.expr_context)
+        for name, node in nodes(ast.Try):
+            for row in node.finalbody:
+                place = f"{name}:{row.lineno}"
+                self.assertIsInstance(row, ast.Expr, place)
+                self.assertEqual(row.value.func.attr, "append", place)
+                for given in row.value.args:
+                    for part in ast.walk(given):
+                        self.assertIsInstance(part, simple, place)
+
+    def test_sets_stand_where_they_are_sorted_or_looked_in(self):
+        placed = set()
+        for name, node in nodes(ast.Call, ast.Compare):
+            if isinstance(node, ast.Compare):
+                placed.update(id(side) for side in node.comparators)
+            elif getattr(node.func, "id", "") in ("sorted", "len"):
+                placed.update(id(given) for given in node.args)
+        for name, node in nodes(ast.SetComp, ast.Set):
+            self.assertIn(id(node), placed, f"{name}:{node.lineno}")
+
+    def test_calls_with_stars(self):
+        for name, node in nodes(ast.Call):
+            for given in node.args:
+                if isinstance(given, ast.Starred):
+                    self.assertIsInstance(given.value, (ast.Name, ast.Attribute), f"{name}:{node.lineno}")
+
     def test_double_underscore_methods(self):
         for name, node in nodes(ast.FunctionDef):
             if node.name in ("__len__", "__str__", "__repr__"):
                 self.assertIsInstance(node.body[-1], ast.Return, f"{name}:{node.lineno}")
+            if node.name in ("__str__", "__repr__"):
+                for row in ast.walk(node):
+                    if isinstance(row, ast.Return) and not isinstance(row.value, (ast.Constant, ast.JoinedStr)):
+                        self.assertIn(row.value.func.id, ("str", "repr"), f"{name}:{row.lineno}")
+            if node.name in ("__eq__", "__len__", "__str__", "__repr__"):
+                for row in ast.walk(node):
+                    self.assertNotIsInstance(row, (ast.Assign, ast.AugAssign, ast.Delete), f"{name}:{node.lineno}")
             if node.name == "__len__":
                 for row in ast.walk(node):
                     if isinstance(row, ast.Return) and not isinstance(row.value, ast.Constant):

@@ -4,10 +4,11 @@ import copy
 import inspect
 import unittest
 
-from cardlines import entries, figures, joining, leading, least, leastcheck, pairs, places, placetext, reading, remaking
-from cardlines import runs, seals, tables, turns
+from cardlines import desk, entries, figures, hexes, joining, leading, least, leastcheck, pairs, places, placetext, reading
+from cardlines import remaking, runs, seals, tables, tabletext, turns
 from cardlines.places import Place
 from cardlines.reader import Reader
+from cardlines.strip import Strip
 from tests.things import forms
 
 STRIP = [Place(3), Place(3), Place(), Place(3, begin=4, end=9), Place(3, 5, begin=4, end=9)]
@@ -99,6 +100,16 @@ ASKS = (
     (joining.cut, {"codes": TABLE, "first": 3, "last": 9}),
     (joining.table_turned, {"codes": TABLE, "turns": TURNED, "make": "heads", "every": 4}),
     (joining.table_turned, {"codes": TABLE, "turns": []}),
+    (hexes.hex_text, {"codes": TABLE}),
+    (hexes.hex_in, {"text": "ff 00\n\n0a"}),
+    (hexes.hex_in, {"text": ""}),
+    (tabletext.table_text, {"codes": TABLE}),
+    (tabletext.table_in, {"text": tabletext.table_text(TABLE)}),
+    (tabletext.table_in, {"text": ""}),
+    (desk.answers, {"text": "put 0 3 - 4.1-2\ntake 0 1\nstrip\nback\ntable\nplace 9", "make": "heads"}),
+    (desk.answers, {"text": ""}),
+    (Strip, {"places": STRIP, "make": "heads", "every": 3}),
+    (Strip, {"places": []}),
 )
 # Of these a list alone is what is asked of, and a tuple is none.
 ASKED_OF = ("thing", "entries", "prices")
@@ -137,6 +148,15 @@ SIGNATURES = (
      (("one",), ("other",), ("by", NAMED, 0), ("make", NAMED, "copies"), ("every", NAMED, 16))),
     (joining.cut, (("codes",), ("first",), ("last",), ("make", NAMED, "copies"), ("every", NAMED, 16))),
     (joining.table_turned, (("codes",), ("turns",), ("make", NAMED, "copies"), ("every", NAMED, 16))),
+    (hexes.hex_text, (("codes",),)), (hexes.hex_in, (("text",),)),
+    (tabletext.table_text, (("codes",),)), (tabletext.table_in, (("text",),)),
+    (desk.answers, (("text",), ("make", NAMED, "copies"))),
+    (Strip, (("places", PLAIN, ()), ("make", NAMED, "copies"), ("every", NAMED, 16))),
+    (Strip.turn, (("self",), ("turn",))), (Strip.turn_all, (("self",), ("turns",))), (Strip.back, (("self",),)),
+    (Strip.forth, (("self",),)), (Strip.log, (("self",),)), (Strip.is_open, (("self",),)), (Strip.places, (("self",),)),
+    (Strip.place, (("self",), ("card",))), (Strip.table, (("self",),)), (Strip.cards_of, (("self",), ("line",))),
+    (Strip.lines, (("self",),)), (Strip.origin, (("self",), ("card",))), (Strip.now_of, (("self",), ("card",))),
+    (Strip.deeds, (("self",),)), (Strip.as_told, (("self",), ("many",))), (Strip.twin, (("self",),)),
 )
 
 
@@ -224,6 +244,11 @@ class Manners(unittest.TestCase):
         self.assertEqual(joining.cut(codes, 900, 959), tables.written(told[900:]))
         self.assertEqual(turns.turned(told, []), told)
         self.assertEqual(turns.turned(told, [("take", 100, 800)]), told[:100] + told[900:])
+        self.assertEqual(hexes.hex_in(hexes.hex_text(codes)), codes)
+        self.assertEqual(tabletext.table_in(tabletext.table_text(codes)), codes)
+        kept = Strip(told, every=1)
+        self.assertEqual((kept.places(), kept.table(), kept.deeds()), (told, codes, 0))
+        self.assertEqual((kept.turn_all([]), kept.now_of(959), kept.twin() == kept), ([], [959], True))
 
     def test_places_stay_as_they_are(self):
         strip = forms()[:160]
